@@ -1,0 +1,1 @@
+"""Labeltill: what a label shows and what a till asks, told late."""
