@@ -1,0 +1,57 @@
+"""The examples of the document, with just the answers that stand there."""
+
+import unittest
+
+from labeltill.bands import band, cells, moments_of
+from labeltill.books import Book
+from labeltill.charges import charges, charges_at, greatest_over, is_visit, overs, rules_of, surely_charged
+from labeltill.lines import Line
+from labeltill.losses import losses, moments_with
+from labeltill.visits import Visit
+
+
+class ExamplesTest(unittest.TestCase):
+    def setUp(self):
+        self.book = Book(300, [(10, 250), (20, 400)])
+        self.label, self.till = Line(self.book, (0, 4)), Line(self.book, (1, 2), [12, 20])
+
+    def same(self, found, expected):
+        self.assertEqual(found, expected)
+        # True and 1 are equal to Python, and are not the same answer.
+        self.assertEqual(repr(found), repr(expected))
+
+    def test_books_and_lines(self):
+        book, label, till = self.book, self.label, self.till
+        self.same([book[1], len(book), list(book), book.at(10), book.at(11), book.first_at(400)],
+                  [250, 3, [300, 250, 400], (0, 1), (1, 1), 20])
+        self.same([label.window(0), label.window(1), till.window(1), label.stretch(20), label.prices_at(12),
+                   till.stretch(12)], [(None, 14), (10, 24), (13, 22), (1, 2), [250, 300], (0, 0)])
+        self.same([label.latest(), till.is_course([13, 21]), label.shown([14, 20], 14),
+                   label.is_course(label.course_with([(11, 0), (20, 2)]))], [[14, 24], True, (0, 1), True])
+        self.same([label.tight([(9, 0), (9, 1)]), label.tight([(20, 2), (21, 1)])], [(1,), (0, 1)])
+
+    def test_visits_and_bands(self):
+        label, till = self.label, self.till
+        visit = Visit([label, till], [0, 1, 0], [(0, 3), (1, 1)])
+        self.same([visit.can_be([0, 1, 1]), visit.can_be([1, 0, 0]), visit.clash([1, 0, 0]), visit.clash([1, 2, 1]),
+                   visit.numbers_at([1, None, 2], 1)], [True, False, (0, 2), None, (1, 2)])
+        self.same(visit.is_shown([0, 1, 1], ([13, 13, 14], [[13, 21], [13, 21]])), True)
+        self.same([band(label, till, (0, 3)), cells(label, till, (0, 0)), moments_of(label, 1, till, 0, (0, 3))],
+                  [[(0, 1), (0, 2), (1, 2)], [(0, 0), (0, 1), (1, 0), (1, 1), (1, 2), (2, 1), (2, 2)], (10, 14)])
+
+    def test_charges_and_losses(self):
+        label, till = self.label, self.till
+        gap = (0, 3)
+        self.same([charges(label, till, gap, "till"), charges_at(label, till, 20, 1, "till"),
+                   surely_charged(label, till, 9, 3, "shown"), surely_charged(label, till, 11, 3, "lower")],
+                  [[250, 300, 400], [250, 400], 300, None])
+        self.same([overs(label, till, gap, "till"), greatest_over(label, till, gap, "till"),
+                   greatest_over(label, till, gap, "lower"), rules_of(label, till, gap, 300, 250)],
+                  [[-150, -50, 0, 50, 150], 150, 0, ["till", "lower"]])
+        self.same([is_visit(label, till, gap, (1, 2, 20, 1)), is_visit(label, till, gap, (1, 2, 10, 1)),
+                   losses(label, till, gap, "lower"), moments_with(label, till, 0, "till", 1)],
+                  [True, False, [-50, 0, 50, 150], [(20, 22)]])
+
+
+if __name__ == "__main__":
+    unittest.main()

@@ -1,0 +1,82 @@
+"""The interface of the document: each name is defined in its file, with its arguments."""
+
+import ast
+import importlib
+import inspect
+import unittest
+from pathlib import Path
+
+PACKAGE = Path(__file__).resolve().parent.parent / "labeltill"
+
+FUNCTIONS = {
+    "kinds": ["is_integer(thing)", "is_price(thing)", "is_board(thing)", "is_change(thing)", "is_index(thing, many)"],
+    "bands": ["meets(label, number, till, other, gap)", "moments_of(label, number, till, other, gap)",
+              "band(label, till, gap)", "band_back(label, till, gap)", "cells(label, till, gap)",
+              "stretches_at(label, till, moment, wait)"],
+    "charges": ["charged(rule, shown, asked)", "greatest_over(label, till, gap, rule)",
+                "is_visit(label, till, gap, thing)", "charges(label, till, gap, rule)",
+                "charges_at(label, till, moment, wait, rule)", "overs(label, till, gap, rule)",
+                "charges_for(label, till, gap, rule, shown)", "rules_of(label, till, gap, shown, paid)",
+                "surely_charged(label, till, moment, wait, rule)", "over_visit(label, till, gap, rule)"],
+    "losses": ["book_line(book)", "is_loss_visit(label, till, gap, thing)", "losses(label, till, gap, rule)",
+               "losses_at(label, till, moment, wait, rule)", "greatest_loss(label, till, gap, rule)",
+               "least_loss(label, till, gap, rule)", "loss_visit(label, till, gap, rule, loss)",
+               "moments_with(label, till, wait, rule, loss)"],
+}
+CLASSES = {
+    ("books", "Book", "(first, changes=())"): [
+        "__len__()", "__getitem__(number)", "__eq__(other)", "__iter__()", "changes()", "moments()", "prices()",
+        "at(moment)", "first_at(price)", "moved(by)", "scaled(by)", "with_change(moment, price)", "without(index)",
+        "joined(other)"],
+    ("lines", "Line", "(book, board, sent=None)"): [
+        "__eq__(other)", "sent()", "earliest()", "latest()", "prices_at(moment)", "window(number)",
+        "can_show(number, moment)", "stretch(moment)", "shown(course, moment)", "is_course(thing)",
+        "course_with(looks)", "tight(looks)"],
+    ("visits", "Visit", "(lines, looks, gaps, begun=None)"): [
+        "__eq__(other)", "lines()", "looks()", "gaps()", "start()", "can_be(numbers)", "is_shown(numbers, thing)",
+        "shown_by(numbers)", "clash(numbers)", "numbers_at(told, index)"],
+}
+PROPERTIES = {("lines", "Line"): ["book", "board"]}
+ERRORS = ["LabelError", "Wrong", "NotLater", "Early", "NoNumber", "NoPrice", "NoChange", "NoOrder", "NoIndex",
+          "NoLoss", "Outside", "NoPlace", "Passed", "Clash", "Refused", "Nothing", "NoText", "NoCommand"]
+
+
+def defined_in(module):
+    """The names that a file of the package defines by def and class."""
+    tree = ast.parse((PACKAGE / (module + ".py")).read_text(encoding="utf-8"))
+    return [node.name for node in tree.body if isinstance(node, (ast.FunctionDef, ast.ClassDef))]
+
+
+class InterfaceTest(unittest.TestCase):
+    def test_functions(self):
+        for module, signatures in FUNCTIONS.items():
+            names = defined_in(module)
+            for signature in signatures:
+                name = signature.split("(")[0]
+                self.assertIn(name, names)
+                function = getattr(importlib.import_module("labeltill." + module), name)
+                self.assertEqual(name + str(inspect.signature(function)), signature)
+
+    def test_classes(self):
+        for (module, name, signature), methods in CLASSES.items():
+            self.assertIn(name, defined_in(module))
+            found = getattr(importlib.import_module("labeltill." + module), name)
+            self.assertEqual(str(inspect.signature(found)), signature)
+            for method in methods:
+                word = method.split("(")[0]
+                self.assertIn(word, vars(found))
+                arguments = list(inspect.signature(vars(found)[word]).parameters)[1:]
+                self.assertEqual("{}({})".format(word, ", ".join(arguments)), method)
+
+    def test_properties(self):
+        for (module, name), words in PROPERTIES.items():
+            found = getattr(importlib.import_module("labeltill." + module), name)
+            for word in words:
+                self.assertIsInstance(vars(found)[word], property)
+
+    def test_errors(self):
+        self.assertEqual(sorted(defined_in("errors")), sorted(ERRORS))
+
+
+if __name__ == "__main__":
+    unittest.main()
