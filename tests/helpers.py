@@ -1,5 +1,6 @@
 """What the tests share: odd values, and lines that are small enough to try all of their courses."""
 
+import unittest
 from itertools import product
 from random import Random
 
@@ -7,6 +8,15 @@ from labeltill.books import Book
 from labeltill.lines import Line
 
 HUGE = 10 ** 30
+
+
+class Case(unittest.TestCase):
+    """A test case that can ask which error a call raises, and with which object."""
+
+    def fails(self, error, field, value, call, *arguments, **named):
+        with self.assertRaises(error) as context:
+            call(*arguments, **named)
+        self.assertIs(getattr(context.exception, field), value)
 
 
 def nested(depth):

@@ -2,7 +2,7 @@
 
 import unittest
 
-from helpers import HUGE, doc_book, odd_values
+from helpers import HUGE, Case, doc_book, odd_values
 from labeltill.books import Book
 from labeltill.errors import NoChange, NoNumber, NoPrice, NotLater, Wrong
 from labeltill.lines import Line
@@ -14,12 +14,7 @@ def not_integers():
     return [value for value in odd_values() if not isinstance(value, int) or isinstance(value, bool)]
 
 
-class BooksTest(unittest.TestCase):
-    def fails(self, error, field, value, call, *arguments):
-        with self.assertRaises(error) as context:
-            call(*arguments)
-        self.assertIs(getattr(context.exception, field), value)
-
+class BooksTest(Case):
     def test_no_change(self):
         for book in (Book(7), Book(7, []), Book(7, ()), Book(first=7, changes=[]), Book(7, changes=())):
             self.assertEqual(book.changes(), [])

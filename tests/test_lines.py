@@ -4,19 +4,14 @@ import unittest
 from itertools import product
 from random import Random
 
-from helpers import (HUGE, doc_book, doc_label, doc_till, every_course, moments_around, moved_line, numbers_shown,
+from helpers import (HUGE, Case, doc_book, doc_label, doc_till, every_course, moments_around, moved_line, numbers_shown,
                      odd_values, scaled_line, shown_numbers, shows, some_lines)
 from labeltill.books import Book
 from labeltill.errors import Early, NoNumber, Wrong
 from labeltill.lines import Line
 
 
-class LinesTest(unittest.TestCase):
-    def fails(self, error, field, value, call, *arguments):
-        with self.assertRaises(error) as context:
-            call(*arguments)
-        self.assertIs(getattr(context.exception, field), value)
-
+class LinesTest(Case):
     def test_what_it_is_made_of(self):
         line = doc_till()
         self.assertEqual([line.book, line.board, line.sent()], [doc_book(), (1, 2), [12, 20]])

@@ -4,7 +4,7 @@ import unittest
 from itertools import product
 from random import Random
 
-from helpers import (HUGE, doc_book, doc_label, doc_till, every_course, moments_around, moved_line, odd_values,
+from helpers import (HUGE, Case, doc_book, doc_label, doc_till, every_course, moments_around, moved_line, odd_values,
                      some_board, some_line, some_lines, some_book, shows)
 from labeltill.books import Book
 from labeltill.errors import NoNumber, Wrong
@@ -79,12 +79,7 @@ def two_looks(visit, one, other):
     return Visit(visit.lines(), [visit.looks()[one], visit.looks()[other]], [gap])
 
 
-class VisitsTest(unittest.TestCase):
-    def fails(self, error, field, value, call, *arguments, **named):
-        with self.assertRaises(error) as context:
-            call(*arguments, **named)
-        self.assertIs(getattr(context.exception, field), value)
-
+class VisitsTest(Case):
     def test_what_it_is_made_of(self):
         visit = doc_visit()
         self.assertEqual([visit.lines(), visit.looks(), visit.gaps(), visit.start()],
