@@ -3,7 +3,7 @@
 from labeltill.books import Book, check_number
 from labeltill.errors import Early, Wrong
 from labeltill.kinds import is_board, is_integer
-from labeltill.spans import is_within, taken_over
+from labeltill.spans import is_within, taken_over, window_of
 
 
 class Line:
@@ -54,9 +54,7 @@ class Line:
     def window(self, number):
         """The span of the moments at which the line can show a number."""
         check_number(self._book, number)
-        begin = None if number == 0 else self._sent[number - 1] + self._board[0]
-        end = None if number == len(self._sent) else self._sent[number] + self._board[1]
-        return begin, end
+        return window_of(self._sent, self._board, number)
 
     def can_show(self, number, moment):
         """Whether the line can show a number at a moment."""
@@ -74,9 +72,7 @@ class Line:
 
     def is_course(self, thing):
         """Whether any value is a course of the line."""
-        if not isinstance(thing, list) or not _are_moments(thing, len(self._sent)):
-            return False
-        if _first_early(thing, self.earliest()) is not None:
+        if not are_moments_from(thing, self.earliest()):
             return False
         return all([moment <= most for moment, most in zip(thing, self.latest())])
 
@@ -103,6 +99,11 @@ class Line:
             if not self.can_show(number, moment):
                 return (index,)
         return _first_fall([number for _, number in looks])
+
+
+def are_moments_from(thing, least):
+    """Whether any value is a list of moments that never fall, none of them less than its least one."""
+    return isinstance(thing, list) and _are_moments(thing, len(least)) and _first_early(thing, least) is None
 
 
 def _are_moments(thing, many):

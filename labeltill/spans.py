@@ -28,11 +28,23 @@ def behind(span, gap):
 
 def ahead_of(span, gap):
     """The span of the moments from which a gap leads to one of a span."""
-    return _moved(span[0], -gap[1]), _moved(span[1], -gap[0])
+    return _moved_back(span[0], gap[1]), _moved_back(span[1], gap[0])
+
+
+def window_of(sent, board, number):
+    """The span of the moments at which a board that is sent changes so can show a number."""
+    least, most = board
+    begin = None if number == 0 else sent[number - 1] + least
+    end = None if number == len(sent) else sent[number] + most
+    return begin, end
 
 
 def _moved(bound, by):
-    return None if bound is None else bound + by
+    return None if bound is None or by is None else bound + by
+
+
+def _moved_back(bound, by):
+    return None if bound is None or by is None else bound - by
 
 
 def some_moment(span, otherwise):
@@ -73,6 +85,22 @@ def _touches(end, begin):
 
 def _later_end(one, other):
     return None if one is None or other is None else max(one, other)
+
+
+def first_common(ones, others, first):
+    """The least moment from a first one on that is in a span of each of two ascending lists, or None."""
+    one = other = 0
+    while one < len(ones) and other < len(others):
+        common = overlap(ones[one], others[other])
+        left = None if common is None else overlap(common, (first, None))
+        if left is not None:
+            return left[0]
+        # The span that ends first has nothing in common with the later ones of the other list.
+        if _later_end(ones[one][1], others[other][1]) == others[other][1]:
+            one += 1
+        else:
+            other += 1
+    return None
 
 
 def taken_over(course, moment):

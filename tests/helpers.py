@@ -1,7 +1,7 @@
 """What the tests share: odd values, and lines that are small enough to try all of their courses."""
 
 import unittest
-from itertools import product
+from itertools import combinations, product
 from random import Random
 
 from labeltill.books import Book
@@ -113,3 +113,32 @@ def moments_around(*lines):
     """A range that holds all moments at which one of some lines can change what it shows, and some more."""
     known = [moment for line in lines for moment in line.book.moments() + line.earliest() + line.latest()]
     return range(min(known, default=0) - 4, max(known, default=0) + 5)
+
+
+def some_plan(random, book, most=4):
+    """A plan of a book, each moment some moments later than it must be."""
+    plan = [], []
+    for sent in plan:
+        for moment in book.moments():
+            sent.append(max([moment] + sent[-1:]) + random.choice([0, 0, random.randint(0, most)]))
+    return plan
+
+
+def moved_plan(plan, by):
+    return tuple([moment + by for moment in sent] for sent in plan)
+
+
+def way_of(order):
+    """The cells of the way of an order, straight from the definition."""
+    return [(order[:many].count("L"), order[:many].count("T")) for many in range(len(order) + 1)]
+
+
+def good_orders(book):
+    """The ascending list of the good orders of a book, by trying all orders."""
+    many = len(book) - 1
+    found = []
+    for places in combinations(range(2 * many), many):
+        order = "".join("L" if place in places else "T" for place in range(2 * many))
+        if all(book[other] <= book[one] for one, other in way_of(order)):
+            found.append(order)
+    return sorted(found)

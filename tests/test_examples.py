@@ -3,10 +3,14 @@
 import unittest
 
 from labeltill.bands import band, cells, moments_of
+from labeltill.bestorders import ending, first_to_end, waiting
 from labeltill.books import Book
 from labeltill.charges import charges, charges_at, greatest_over, is_visit, overs, rules_of, surely_charged
+from labeltill.leastplans import forced_by, least_plan
 from labeltill.lines import Line
 from labeltill.losses import losses, moments_with
+from labeltill.orders import cells_of, count_orders, order_at, order_followed, plain_order
+from labeltill.plans import bad_cells, can_meet, harm, is_safe
 from labeltill.visits import Visit
 
 
@@ -51,6 +55,19 @@ class ExamplesTest(unittest.TestCase):
         self.same([is_visit(label, till, gap, (1, 2, 20, 1)), is_visit(label, till, gap, (1, 2, 10, 1)),
                    losses(label, till, gap, "lower"), moments_with(label, till, 0, "till", 1)],
                   [True, False, [-50, 0, 50, 150], [(20, 22)]])
+
+    def test_plans_and_orders(self):
+        book = self.book
+        self.same([bad_cells(book), plain_order(book), count_orders(book), order_at(book, 0), cells_of("TLLT")],
+                  [[(0, 2), (1, 0), (1, 2)], "TLLT", 1, "TLLT", [(0, 0), (0, 1), (1, 1), (2, 1), (2, 2)]])
+        boards = (0, 4), (0, 1), (0, 5)
+        at_once = ([10, 20], [10, 20])
+        self.same([harm(book, *boards, at_once), can_meet(*boards, at_once, (0, 2))], [((1, 0), (10, 10)), False])
+        plan = least_plan(book, *boards, "TLLT")
+        self.same([plan, forced_by(book, *boards, "TLLT"), is_safe(book, *boards, plan)],
+                  [([12, 20], [10, 30]), [None, 0, None, 2], True])
+        self.same([ending(plan), waiting(book, plan), first_to_end(book, *boards), order_followed(book, *boards, plan)],
+                  [30, 12, "TLLT", "TLLT"])
 
 
 if __name__ == "__main__":

@@ -22,6 +22,14 @@ FUNCTIONS = {
                "losses_at(label, till, moment, wait, rule)", "greatest_loss(label, till, gap, rule)",
                "least_loss(label, till, gap, rule)", "loss_visit(label, till, gap, rule, loss)",
                "moments_with(label, till, wait, rule, loss)"],
+    "plans": ["is_plan(book, thing)", "can_meet(label, till, gap, plan, cell)", "is_safe(book, label, till, gap, plan)",
+              "lines_by(book, label, till, plan)", "bad_cells(book)", "harm(book, label, till, gap, plan)"],
+    "orders": ["is_order(book, thing)", "is_good(book, thing)", "cells_of(order)", "plain_order(book)",
+               "count_orders(book)", "order_at(book, index)", "order_index(book, order)",
+               "follows(book, label, till, gap, plan, order)", "order_followed(book, label, till, gap, plan)"],
+    "leastplans": ["least_plan(book, label, till, gap, order)", "forced_by(book, label, till, gap, order)"],
+    "bestorders": ["ending(plan)", "waiting(book, plan)", "first_to_end(book, label, till, gap)",
+                   "least_waiting(book, label, till, gap)"],
 }
 CLASSES = {
     ("books", "Book", "(first, changes=())"): [

@@ -3,7 +3,8 @@
 import unittest
 from itertools import product
 
-from labeltill.spans import (EVER, ahead_of, behind, is_within, least_wait, overlap, some_moment, taken_over, united)
+from labeltill.spans import (EVER, ahead_of, behind, first_common, is_within, least_wait, overlap, some_moment,
+                             taken_over, united, window_of)
 
 BOUNDS = [None, 0, 1, 2, 3, 4, 5]
 SPANS = [(begin, end) for begin in BOUNDS for end in BOUNDS if begin is None or end is None or begin <= end]
@@ -37,6 +38,28 @@ class SpansTest(unittest.TestCase):
                                                      None if end is None else end + gap[1]))
                 self.assertEqual(ahead_of(span, gap), (None if begin is None else begin - gap[1],
                                                        None if end is None else end - gap[0]))
+
+    def test_a_gap_without_end(self):
+        for span in SPANS:
+            for least in (0, 2):
+                begin, end = span
+                self.assertEqual(behind(span, (least, None)), (None if begin is None else begin + least, None))
+                self.assertEqual(ahead_of(span, (least, None)), (None, None if end is None else end - least))
+
+    def test_window_of(self):
+        self.assertEqual(window_of((), (1, 2), 0), (None, None))
+        self.assertEqual([window_of([3, 5], (1, 4), number) for number in range(3)], [(None, 7), (4, 9), (6, None)])
+
+    def test_first_common(self):
+        lists = [[], [EVER]] + [united([one, other]) for one, other in product(SPANS[::2], SPANS[1::3])]
+        for ones, others in product(lists, lists):
+            for first in (-2, 0, 3, 6):
+                known = [moment for moment in range(first, 9) if any(moment in held(span) for span in ones)
+                         and any(moment in held(span) for span in others)]
+                self.assertEqual(first_common(ones, others, first), known[0] if known else None)
+        three = [(None, -9), (0, 1), (4, 5), (9, None)]
+        for first, known in ((-30, -30), (-9, -9), (-8, 1), (2, 4), (5, 9), (6, 9), (40, 40)):
+            self.assertEqual(first_common(three, [(None, -9), (1, 4), (7, None)], first), known)
 
     def test_some_moment_and_least_wait(self):
         for span in SPANS:
