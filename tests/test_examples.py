@@ -2,6 +2,7 @@
 
 import unittest
 
+from labeltill.badbooks import bad_book, is_bad_book, over_by
 from labeltill.bands import band, cells, moments_of
 from labeltill.bestorders import ending, first_to_end, waiting
 from labeltill.books import Book
@@ -11,6 +12,9 @@ from labeltill.lines import Line
 from labeltill.losses import losses, moments_with
 from labeltill.orders import cells_of, count_orders, order_at, order_followed, plain_order
 from labeltill.plans import bad_cells, can_meet, harm, is_safe
+from labeltill.rules import apart_for, how_many_rules, is_safe_rule, least_apart, least_rule, sent_by
+from labeltill.sightings import denial, is_seen, numbers_at, seen_numbers, surely_at
+from labeltill.steady import latenesses, parting_moment, steady_prices
 from labeltill.visits import Visit
 
 
@@ -68,6 +72,24 @@ class ExamplesTest(unittest.TestCase):
                   [([12, 20], [10, 30]), [None, 0, None, 2], True])
         self.same([ending(plan), waiting(book, plan), first_to_end(book, *boards), order_followed(book, *boards, plan)],
                   [30, 12, "TLLT", "TLLT"])
+
+    def test_rules_and_bad_books(self):
+        book, gap, boards = self.book, (0, 3), ((0, 4), (1, 2))
+        self.same([sent_by((7, 3), book), is_safe_rule((7, 3), boards, gap, 9), over_by((7, 3), book, boards, gap),
+                   over_by((5, 3), book, boards, gap)], [([13, 20], [10, 27]), True, 0, 150])
+        self.same([least_rule(boards, gap, 9), least_apart(boards, gap), least_rule(boards, gap, 4),
+                   apart_for((9, 3), boards, gap), how_many_rules(boards, gap, 9, 10)], [(7, 3), 5, None, 9, 30])
+        self.same([is_bad_book((0, 0), boards, gap, 9, bad_book((0, 0), boards, gap, 9)),
+                   bad_book((7, 3), boards, gap, 9)], [True, None])
+
+    def test_sightings_and_steady_lines(self):
+        label = self.label
+        self.same([seen_numbers(label, [(12, 250), (20, 250)]), numbers_at(label, [(12, 250)], 12),
+                   surely_at(label, [(12, 250)], 19)], [[[1], [1]], [0, 1], 250])
+        self.same([is_seen(label, [(12, 250), (13, 300)]), denial(label, [(12, 250), (13, 300)]),
+                   denial(label, [(15, 300)])], [False, [1], []])
+        self.same([latenesses(label, [(12, 250)]), steady_prices(label, [(12, 250)], 21),
+                   parting_moment(label, [(12, 250)], 0)], [[(0, 2)], [250, 400], 11])
 
 
 if __name__ == "__main__":

@@ -30,6 +30,18 @@ FUNCTIONS = {
     "leastplans": ["least_plan(book, label, till, gap, order)", "forced_by(book, label, till, gap, order)"],
     "bestorders": ["ending(plan)", "waiting(book, plan)", "first_to_end(book, label, till, gap)",
                    "least_waiting(book, label, till, gap)"],
+    "rules": ["is_rule(thing)", "keeps_apart(book, apart)", "is_safe_rule(rule, boards, gap, apart)",
+              "sent_by(rule, book)", "lines_told(rule, book, boards)", "least_rule(boards, gap, apart)",
+              "rule_above(rule, boards, gap, apart)", "least_apart(boards, gap)",
+              "how_many_rules(boards, gap, apart, most)", "apart_for(rule, boards, gap)"],
+    "badbooks": ["over_by(rule, book, boards, gap)", "bad_book(rule, boards, gap, apart)",
+                 "is_bad_book(rule, boards, gap, apart, thing)"],
+    "sightings": ["numbers_of(line, sighting)", "is_seen(line, sightings)", "is_denial(line, sightings, thing)",
+                  "course_for(line, sightings)", "least_numbers(line, sightings)", "greatest_numbers(line, sightings)",
+                  "seen_numbers(line, sightings)", "denial(line, sightings)", "numbers_at(line, sightings, moment)",
+                  "prices_seen_at(line, sightings, moment)", "surely_at(line, sightings, moment)"],
+    "steady": ["fits_steady(line, sightings, lateness)", "latenesses(line, sightings)",
+               "steady_prices(line, sightings, moment)", "parting_moment(line, sightings, first)"],
 }
 CLASSES = {
     ("books", "Book", "(first, changes=())"): [
