@@ -15,8 +15,9 @@ def over_by(rule, book, boards, gap):
 
 def bad_book(rule, boards, gap, apart):
     """A tuple of a Book of at most two changes and a visit in which more is charged than shown, or None."""
-    # A rule that is not safe misses one of four inequalities, and each of these books is charged over by one.
-    for changes in ([(0, 2)], [(0, 0)], [(0, 0), (apart, 2)], [(0, 2), (apart, 0)]):
+    # What a rule that is not safe gets wrong is a rise, a rise behind a fall, a fall, or a fall behind a rise; one
+    # of these two books shows each of them.
+    for changes in ([(0, 0), (apart, 2)], [(0, 2), (apart, 0)]):
         book = Book(1, changes)
         if over_by(rule, book, boards, gap) > 0:
             label, till = lines_told(rule, book, boards)

@@ -51,13 +51,15 @@ def seen_numbers(line, sightings):
 
 
 def _climb(choices):
-    """The least numbers of the choices, never falling, up to the first choice for which none is left."""
+    """The least numbers of the choices, never falling, up to the first choice of which none is left."""
     found = []
+    least = 0
     for numbers in choices:
-        left = [number for number in numbers if number >= max(found[-1:], default=0)]
+        left = [number for number in numbers if number >= least]
         if len(left) == 0:
             return found
-        found.append(left[0])
+        least = left[0]
+        found.append(least)
     return found
 
 
@@ -69,7 +71,7 @@ def _least(choices):
 def _greatest(choices):
     found = []
     for numbers in choices[::-1]:
-        left = [number for number in numbers if number <= min(found[:1], default=number)]
+        left = [number for number in numbers if len(found) == 0 or number <= found[0]]
         if len(left) == 0:
             return None
         found = [left[-1]] + found
