@@ -11,9 +11,9 @@ class Book:
     def __init__(self, first, changes=()):
         if not is_price(first):
             raise Wrong(0)
-        if not _are_changes(changes):
+        if not are_changes(changes):
             raise Wrong(1)
-        index = _first_not_later(changes)
+        index = first_not_later(changes)
         if index is not None:
             raise NotLater(index)
         self._changes = tuple(changes)
@@ -90,11 +90,12 @@ def check_number(book, number):
         raise NoNumber(number)
 
 
-def _are_changes(thing):
+def are_changes(thing):
+    """Whether any value is a list or a tuple of changes."""
     return isinstance(thing, (list, tuple)) and all([is_change(change) for change in thing])
 
 
-def _first_not_later(changes):
+def first_not_later(changes):
     """The index of the first change whose moment is not greater than that of the one ahead, or None."""
     for index in range(1, len(changes)):
         if changes[index][0] <= changes[index - 1][0]:

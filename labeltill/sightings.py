@@ -16,6 +16,11 @@ def _choices(line, sightings):
     return [numbers_of(line, sighting) for sighting in sightings]
 
 
+def latenesses_told(line, sightings):
+    """The list of how late each change is that is taken over just at a sighting; below 0 where it is sent later."""
+    return [moment - sent for moment, _ in sightings for sent in line.sent()]
+
+
 def is_seen(line, sightings):
     """Whether some course shows all sightings."""
     return _least(_choices(line, sightings)) is not None

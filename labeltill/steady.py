@@ -1,7 +1,7 @@
 """Steady lines: each change is late by one and the same lateness, which is not told."""
 
 from labeltill.lines import Line
-from labeltill.sightings import is_seen
+from labeltill.sightings import is_seen, latenesses_told
 from labeltill.spans import ahead_of, behind, first_common, overlap, taken_over, united
 
 
@@ -12,7 +12,7 @@ def fits_steady(line, sightings, lateness):
 
 def latenesses(line, sightings):
     """The ascending list of the spans of all latenesses that fit."""
-    turns = [moment - sent for moment, _ in sightings for sent in line.sent()]
+    turns = latenesses_told(line, sightings)
     # What is seen differs at a turn from what is seen less late, and more late; from one turn to the next it stays.
     begins = sorted(set([0] + [begin for turn in turns for begin in (turn, turn + 1) if begin >= 0]))
     ends = [begin - 1 for begin in begins[1:]] + [None]

@@ -7,14 +7,18 @@ from labeltill.bands import band, cells, moments_of
 from labeltill.bestorders import ending, first_to_end, waiting
 from labeltill.books import Book
 from labeltill.charges import charges, charges_at, greatest_over, is_visit, overs, rules_of, surely_charged
+from labeltill.days import courses_of, greatest_row, greatest_sum, least_sum, triples_at
+from labeltill.latest import greatest_least, is_late_paper, late_paper, least_most
 from labeltill.leastplans import forced_by, least_plan
 from labeltill.lines import Line
 from labeltill.losses import losses, moments_with
 from labeltill.orders import cells_of, count_orders, order_at, order_followed, plain_order
 from labeltill.plans import bad_cells, can_meet, harm, is_safe
+from labeltill.rounds import Rounds, greatest_round_over, next_round_over, round_band
 from labeltill.rules import apart_for, how_many_rules, is_safe_rule, least_apart, least_rule, sent_by
 from labeltill.sightings import denial, is_seen, numbers_at, seen_numbers, surely_at
 from labeltill.steady import latenesses, parting_moment, steady_prices
+from labeltill.tables import is_upper_table, upper_table
 from labeltill.visits import Visit
 
 
@@ -90,6 +94,31 @@ class ExamplesTest(unittest.TestCase):
                    denial(label, [(15, 300)])], [False, [1], []])
         self.same([latenesses(label, [(12, 250)]), steady_prices(label, [(12, 250)], 21),
                    parting_moment(label, [(12, 250)], 0)], [[(0, 2)], [250, 400], 11])
+
+    def test_least_most(self):
+        label = self.label
+        self.same([least_most(label, [(15, 300)]), greatest_least(label, [(12, 250)]), late_paper(label, [(15, 300)])],
+                  [5, 2, (5, [0], [])])
+        self.same(is_late_paper(label, [(15, 300)], late_paper(label, [(15, 300)])), True)
+
+    def test_days_and_tables(self):
+        label, till = self.label, self.till
+        buyers = [(11, 12), (14, 20)]
+        self.same([triples_at(label, till, (14, 20)), greatest_sum(label, till, buyers, "till", "over")],
+                  [[(0, 1, 1), (0, 1, 2), (1, 1, 1), (1, 1, 2)], 50])
+        self.same([greatest_row(label, till, buyers, "till", "over"), least_sum(label, till, buyers, "lower", "charged")],
+                  [[(1, 0, 1), (1, 1, 1)], 500])
+        courses = courses_of(label, till, buyers, greatest_row(label, till, buyers, "till", "over"))
+        table = upper_table(label, till, buyers, "till", "over")
+        self.same([label.is_course(courses[0]), is_upper_table(label, till, buyers, "till", "over", table)], [True, True])
+
+    def test_rounds(self):
+        week = Rounds(7, [(0, 300), (5, 250)])
+        self.same([week.told_at(3), week.number_at(-1), week.window((0, 1), 2), week.stretch((0, 3), 10 ** 30),
+                   week.unrolled(1, 2).prices()],
+                  [12, -1, (7, 13), (285714285714285714285714285712, 285714285714285714285714285714), [300, 250, 300]])
+        self.same([round_band(week, (0, 2), (0, 2), (0, 1), 1), greatest_round_over(week, (0, 2), (0, 2), (0, 1)),
+                   next_round_over(week, (0, 2), (0, 0), (0, 0), 2)], [(0, 2), 50, 3])
 
 
 if __name__ == "__main__":

@@ -42,6 +42,18 @@ FUNCTIONS = {
                   "prices_seen_at(line, sightings, moment)", "surely_at(line, sightings, moment)"],
     "steady": ["fits_steady(line, sightings, lateness)", "latenesses(line, sightings)",
                "steady_prices(line, sightings, moment)", "parting_moment(line, sightings, first)"],
+    "latest": ["least_most(line, sightings)", "greatest_least(line, sightings)", "late_paper(line, sightings)",
+               "is_late_paper(line, sightings, thing)"],
+    "days": ["are_buyers(thing)", "is_row(label, till, buyers, thing)", "triples_at(label, till, buyer)",
+             "worth_of(book, rule, worth, triple)", "sum_of(book, rule, worth, row)",
+             "greatest_sum(label, till, buyers, rule, worth)", "least_sum(label, till, buyers, rule, worth)",
+             "greatest_row(label, till, buyers, rule, worth)", "least_row(label, till, buyers, rule, worth)",
+             "courses_of(label, till, buyers, row)"],
+    "tables": ["upper_table(label, till, buyers, rule, worth)", "lower_table(label, till, buyers, rule, worth)",
+               "is_upper_table(label, till, buyers, rule, worth, thing)",
+               "is_lower_table(label, till, buyers, rule, worth, thing)"],
+    "rounds": ["round_band(rounds, label, till, gap, number)", "greatest_round_over(rounds, label, till, gap)",
+               "least_round_over(rounds, label, till, gap)", "next_round_over(rounds, label, till, gap, number)"],
 }
 CLASSES = {
     ("books", "Book", "(first, changes=())"): [
@@ -55,8 +67,11 @@ CLASSES = {
     ("visits", "Visit", "(lines, looks, gaps, begun=None)"): [
         "__eq__(other)", "lines()", "looks()", "gaps()", "start()", "can_be(numbers)", "is_shown(numbers, thing)",
         "shown_by(numbers)", "clash(numbers)", "numbers_at(told, index)"],
+    ("rounds", "Rounds", "(period, changes)"): [
+        "__len__()", "__eq__(other)", "changes()", "price_of(number)", "told_at(number)", "number_at(moment)",
+        "window(board, number)", "stretch(board, moment)", "prices_at(board, moment)", "unrolled(first, many)"],
 }
-PROPERTIES = {("lines", "Line"): ["book", "board"]}
+PROPERTIES = {("lines", "Line"): ["book", "board"], ("rounds", "Rounds"): ["period"]}
 ERRORS = ["LabelError", "Wrong", "NotLater", "Early", "NoNumber", "NoPrice", "NoChange", "NoOrder", "NoIndex",
           "NoLoss", "Outside", "NoPlace", "Passed", "Clash", "Refused", "Nothing", "NoText", "NoCommand"]
 
