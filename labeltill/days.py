@@ -72,12 +72,12 @@ def least_sum(label, till, buyers, rule, worth):
 
 def greatest_row(label, till, buyers, rule, worth):
     """The least row that has the greatest sum."""
-    return _best_row(label.book, rule, worth, sums_from(label, till, buyers, rule, worth, 1), 1)
+    return _best_row(label, till, buyers, rule, worth, 1)
 
 
 def least_row(label, till, buyers, rule, worth):
     """The least row that has the least sum."""
-    return _best_row(label.book, rule, worth, sums_from(label, till, buyers, rule, worth, -1), -1)
+    return _best_row(label, till, buyers, rule, worth, -1)
 
 
 def sums_from(label, till, buyers, rule, worth, sign):
@@ -96,15 +96,15 @@ def sums_from(label, till, buyers, rule, worth, sign):
 
 def best_behind(triple, rest, sign):
     """The best integer of a dict for a triple that can be met behind another one, 0 if there is none."""
-    # Only the dict behind the last buyer is empty: what can be met later is never less than some later triple.
+    # Each triple of a buyer has one of the next buyer that is not less; only behind the last buyer there is none.
     return sign * max([sign * rest[later] for later in rest if _never_falls(triple, later)], default=0)
 
 
-def _best_row(book, rule, worth, tables, sign):
-    """The least row that has the best sum, by the best sums from each triple on."""
+def _best_row(label, till, buyers, rule, worth, sign):
+    """The least row that has the best sum: the greatest one for the sign 1, the least one for the sign -1."""
     row = []
     ahead = (0, 0, 0)
-    for sums in tables:
+    for sums in sums_from(label, till, buyers, rule, worth, sign):
         best = best_behind(ahead, sums, sign)
         ahead = [triple for triple in sums if sums[triple] == best and _never_falls(ahead, triple)][0]
         row.append(ahead)

@@ -10,20 +10,29 @@ def least_most(line, sightings):
     least = line.board[0]
     # A greater most opens a window to one more sighting only where a change is late by just this most.
     told = [late for late in latenesses_told(line, sightings) if late > least]
-    for most in sorted(set([least] + told)):
-        if is_seen(_with_board(line, least, most), sightings):
-            return most
-    return None
+    board = _first_board(line, [(least, most) for most in sorted(set([least] + told))], sightings)
+    return None if board is None else board[1]
 
 
 def greatest_least(line, sightings):
     """The greatest least of a board with the most of the line such that the sightings can be, or None."""
     most = line.board[1]
     told = [late for late in latenesses_told(line, sightings) if 0 <= late < most]
-    for least in sorted(set([most] + told))[::-1]:
-        if is_seen(_with_board(line, least, most), sightings):
-            return least
-    return None
+    board = _first_board(line, [(least, most) for least in sorted(set([most] + told))[::-1]], sightings)
+    return None if board is None else board[0]
+
+
+def _first_board(line, boards, sightings):
+    """The first of some boards, each of which allows all that those ahead of it do, with which sightings can be."""
+    low = 0
+    high = len(boards)
+    while low < high:
+        middle = (low + high) // 2
+        if is_seen(_with_board(line, boards[middle]), sightings):
+            high = middle
+        else:
+            low = middle + 1
+    return boards[low] if low < len(boards) else None
 
 
 def late_paper(line, sightings):
@@ -32,8 +41,8 @@ def late_paper(line, sightings):
     if most is None:
         return None
     least = line.board[0]
-    table = None if most == least else denial(_with_board(line, least, most - 1), sightings)
-    return most, least_numbers(_with_board(line, least, most), sightings), table
+    table = None if most == least else denial(_with_board(line, (least, most - 1)), sightings)
+    return most, least_numbers(_with_board(line, (least, most)), sightings), table
 
 
 def is_late_paper(line, sightings, thing):
@@ -44,15 +53,15 @@ def is_late_paper(line, sightings, thing):
     least = line.board[0]
     if not is_integer(most) or most < least:
         return False
-    if not _are_seen(_with_board(line, least, most), sightings, numbers):
+    if not _are_seen(_with_board(line, (least, most)), sightings, numbers):
         return False
     if most == least:
         return table is None
-    return is_denial(_with_board(line, least, most - 1), sightings, table)
+    return is_denial(_with_board(line, (least, most - 1)), sightings, table)
 
 
-def _with_board(line, least, most):
-    return Line(line.book, (least, most), line.sent())
+def _with_board(line, board):
+    return Line(line.book, board, line.sent())
 
 
 def _are_seen(line, sightings, thing):

@@ -8,12 +8,16 @@ from labeltill.bestorders import ending, first_to_end, waiting
 from labeltill.books import Book
 from labeltill.charges import charges, charges_at, greatest_over, is_visit, overs, rules_of, surely_charged
 from labeltill.days import courses_of, greatest_row, greatest_sum, least_sum, triples_at
+from labeltill.desk import Desk
 from labeltill.latest import greatest_least, is_late_paper, late_paper, least_most
 from labeltill.leastplans import forced_by, least_plan
 from labeltill.lines import Line
 from labeltill.losses import losses, moments_with
+from labeltill.notation import show_book, show_window
 from labeltill.orders import cells_of, count_orders, order_at, order_followed, plain_order
 from labeltill.plans import bad_cells, can_meet, harm, is_safe
+from labeltill.readers import read_book, read_deed
+from labeltill.relays import Relay, relay_band, relay_overs
 from labeltill.rounds import Rounds, greatest_round_over, next_round_over, round_band
 from labeltill.rules import apart_for, how_many_rules, is_safe_rule, least_apart, least_rule, sent_by
 from labeltill.sightings import denial, is_seen, numbers_at, seen_numbers, surely_at
@@ -119,6 +123,23 @@ class ExamplesTest(unittest.TestCase):
                   [12, -1, (7, 13), (285714285714285714285714285712, 285714285714285714285714285714), [300, 250, 300]])
         self.same([round_band(week, (0, 2), (0, 2), (0, 1), 1), greatest_round_over(week, (0, 2), (0, 2), (0, 1)),
                    next_round_over(week, (0, 2), (0, 0), (0, 0), 2)], [(0, 2), 50, 3])
+
+    def test_relays(self):
+        relay = Relay(self.book, [(0, 4), (1, 2)])
+        self.same([relay.line(1).board, relay.can_be([(0, 12, 1), (1, 14, 0)]), relay.clash_of([(0, 12, 1), (1, 15, 0)]),
+                   relay.can_be([(0, 12, 0), (1, 12, 1)])], [(1, 6), True, (0, 1), False])
+        self.same([relay_band(relay, 1, 0, (0, 3), 1), relay_band(relay, 0, 1, (0, 0), 1), relay_overs(relay, 1, 0, (0, 3))],
+                  [(1, 2), (0, 1), [(1, 2)]])
+
+    def test_texts_and_desks(self):
+        self.same([show_book(self.book), show_window(self.label.window(0)), read_deed("till 250 at -3"),
+                   read_book("5; 3 at -1").changes()], ["300; 250 at 10; 400 at 20", "ever to 14", ("till", -3, 250), [(-1, 3)]])
+        desk = Desk(300, (0, 4), (0, 1))
+        self.same([desk.execute(line) for line in ["change 250 at 10", "label 250 at 12", "prices label 13", "surely till 12",
+                                                   "overs 12 12", "change 400 at 12", "charged 12 13"]],
+                  ["done", "done", "250", "250", "-50 to 0", "done", "250 to 400"])
+        self.same([desk.execute(line) for line in ["numbers label 13", "window till 1", "back", "log"]],
+                  ["1 2", "10 to 13", "change 400 at 12", "change 250 at 10; label 250 at 12"])
 
 
 if __name__ == "__main__":

@@ -54,6 +54,11 @@ FUNCTIONS = {
                "is_lower_table(label, till, buyers, rule, worth, thing)"],
     "rounds": ["round_band(rounds, label, till, gap, number)", "greatest_round_over(rounds, label, till, gap)",
                "least_round_over(rounds, label, till, gap)", "next_round_over(rounds, label, till, gap, number)"],
+    "relays": ["relay_band(relay, first, second, gap, number)", "relay_overs(relay, first, second, gap)"],
+    "shop": ["is_deed(thing)"],
+    "notation": ["show_sighting(sighting)", "show_book(book)", "show_board(board)", "show_moments(moments)",
+                 "show_deed(deed)", "show_window(window)"],
+    "readers": ["read_sighting(text)", "read_board(text)", "read_deed(text)", "read_book(text)", "read_moments(text)"],
 }
 CLASSES = {
     ("books", "Book", "(first, changes=())"): [
@@ -70,8 +75,16 @@ CLASSES = {
     ("rounds", "Rounds", "(period, changes)"): [
         "__len__()", "__eq__(other)", "changes()", "price_of(number)", "told_at(number)", "number_at(moment)",
         "window(board, number)", "stretch(board, moment)", "prices_at(board, moment)", "unrolled(first, many)"],
+    ("relays", "Relay", "(book, boards, sent=None)"): [
+        "__len__()", "boards()", "line(place)", "is_courses(thing)", "can_be(looks)", "clash_of(looks)", "courses_with(looks)"],
+    ("shop", "Shop", "(first, label, till)"): [
+        "do(deed)", "do_all(deeds)", "back()", "again()", "log()", "copied()", "line(place)", "sightings(place)",
+        "numbers(place, moment)", "prices(place, moment)", "surely(place, moment)", "charged(moment, later)",
+        "overs(moment, later)"],
+    ("desk", "Desk", "(first, label, till)"): ["execute(line)"],
 }
-PROPERTIES = {("lines", "Line"): ["book", "board"], ("rounds", "Rounds"): ["period"]}
+PROPERTIES = {("lines", "Line"): ["book", "board"], ("rounds", "Rounds"): ["period"], ("relays", "Relay"): ["book"],
+              ("shop", "Shop"): ["book"]}
 ERRORS = ["LabelError", "Wrong", "NotLater", "Early", "NoNumber", "NoPrice", "NoChange", "NoOrder", "NoIndex",
           "NoLoss", "Outside", "NoPlace", "Passed", "Clash", "Refused", "Nothing", "NoText", "NoCommand"]
 

@@ -34,7 +34,7 @@ compile copyright credits delattr dir eval exec exit gc globals help id importli
 vars _cold _tuplegetter _outside _record _written_out _member_names""".split()
 SPECIAL = """__init__ __eq__ __repr__ __str__ __len__ __enter__ __exit__ __call__ __iter__ __getitem__""".split()
 BARRED_NODES = (ast.AsyncFunctionDef, ast.Await, ast.Global, ast.GeneratorExp, ast.Div, ast.MatMult, ast.Import,
-                ast.Lambda, ast.Yield, ast.YieldFrom, ast.With, ast.Try, ast.Starred, ast.NamedExpr, ast.Match)
+                ast.Lambda, ast.Yield, ast.YieldFrom, ast.With, ast.Starred, ast.NamedExpr, ast.Match)
 
 
 def parsed(path):
@@ -123,6 +123,13 @@ class LanguageTest(unittest.TestCase):
                         self.assertIn(getattr(other, "value", 0), (None, True, False), (path, node.lineno))
             for node in nodes(path, ast.Raise):
                 self.assertIsInstance(node.exc, ast.Call, (path, node.lineno))
+
+    def test_only_own_errors_are_caught(self):
+        own = {node.name for path in FILES if path.stem == "errors" for node in nodes(path, ast.ClassDef)}
+        for path in FILES:
+            for node in nodes(path, ast.ExceptHandler):
+                caught = node.type.elts if isinstance(node.type, ast.Tuple) else [node.type]
+                self.assertLessEqual({getattr(error, "id", "?") for error in caught}, own, (path, node.lineno))
 
     def test_classes(self):
         for path in FILES:
